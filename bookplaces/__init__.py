@@ -1,0 +1,1 @@
+"""Bookplaces: places in a book of books, told by numbers."""

@@ -1,0 +1,56 @@
+"""The interface: names, arguments, and the files and classes in which they are defined."""
+
+import inspect
+import unittest
+
+from bookplaces import editions, errors, words
+
+FUNCTIONS = {
+    words: {
+        "is_whole": "(thing, low, high)",
+        "is_name": "(thing)",
+        "number_in": "(thing, low, high)",
+        "letter_of": "(part)",
+        "part_in": "(thing)",
+    },
+}
+CLASSES = {
+    editions: {"Edition": "(books, lines=None)"},
+    errors: {
+        "PlaceError": "(text)", "LostError": "(text)", "NoText": "(line)", "NoWriting": "(at, why)", "Unready": "()",
+        "NoNumber": "(found)", "NoName": "(found)", "Doubled": "(found)", "NoEdition": "(found)", "TooMany": "(found)",
+        "NoLines": "(found)", "NoPlaces": "(found)", "NoMark": "(found)", "NoDeed": "(found)", "NoSaid": "(found)",
+        "NoNames": "(found)", "NoLeading": "(found)", "NoTorn": "(found)", "NoLine": "(found)", "NoSpot": "(found)",
+        "NoBook": "(found)", "NoChapter": "(found)", "NoVerse": "(found)", "NoPart": "(found)", "NoList": "(found)",
+    },
+}
+METHODS = {
+    editions.Edition: {
+        "names": "(self)", "size": "(self)", "lines": "(self)",
+        "chapters": "(self, name)", "verses": "(self, name, chapter)", "parts": "(self, name, chapter, verse)",
+        "line_at": "(self, number)", "part_of": "(self, thing)", "told": "(self)", "same": "(self, thing)",
+        "stretch": "(self, spot)", "number": "(self, spot)", "place": "(self, number)", "verse_of": "(self, number)",
+        "begins": "(self, number)", "ends": "(self, number)",
+    },
+}
+
+
+class Interface(unittest.TestCase):
+    def test_functions_and_classes(self):
+        for table, is_kind in ((FUNCTIONS, inspect.isfunction), (CLASSES, inspect.isclass)):
+            for module, names in table.items():
+                for name, arguments in names.items():
+                    thing = getattr(module, name)
+                    self.assertTrue(is_kind(thing), name)
+                    self.assertEqual(thing.__module__, module.__name__)
+                    self.assertEqual(str(inspect.signature(thing)), arguments, name)
+
+    def test_methods_in_the_class_itself(self):
+        for kind, names in METHODS.items():
+            for name, arguments in names.items():
+                self.assertIn(name, vars(kind))
+                self.assertEqual(str(inspect.signature(vars(kind)[name])), arguments, name)
+
+
+if __name__ == "__main__":
+    unittest.main()

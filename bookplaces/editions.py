@@ -176,10 +176,10 @@ def kept_chapter(chapter):
 
 def check_counts(books):
     """Refuse more chapters, or else more parts, than an edition may have."""
-    chapters = [chapter for name, chapters in books for chapter in chapters]
-    if len(chapters) > MOST_CHAPTERS:
-        raise TooMany(len(chapters))
-    parts = sum([sum(chapter) for chapter in chapters])
+    counts = [len(chapters) for name, chapters in books]
+    if sum(counts) > MOST_CHAPTERS:
+        raise TooMany(sum(counts))
+    parts = sum([sum(chapter) for name, chapters in books for chapter in chapters])
     if parts > MOST_PARTS:
         raise TooMany(parts)
 

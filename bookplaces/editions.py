@@ -24,6 +24,8 @@ class Edition:
         self._stretches = stretches_of(self._places)
         self._lines = kept_lines(lines, len(self._places))
         self._numbers = {line: number for number, line in enumerate(self._lines)}
+        # Kept, as each set of places that is handed in is asked for its edition.
+        self._told = (self._books, fewest_pairs(self._lines))
 
     def names(self):
         """The names of the books, in order."""
@@ -66,7 +68,7 @@ class Edition:
 
     def told(self):
         """The books and the pairs of lines of which this same edition can be made."""
-        return self._books, fewest_pairs(self._lines)
+        return self._told
 
     def same(self, thing):
         """Whether thing is an edition that tells the same of itself."""
@@ -137,6 +139,12 @@ class Edition:
             many = self.parts(spot[0], spot[1], spot[2])
             if len(spot) == 4 and not is_whole(spot[3], 1, many):
                 raise NoPart(spot[3])
+
+
+def check_edition(thing):
+    """Refuse what is no edition."""
+    if not isinstance(thing, Edition):
+        raise NoEdition(thing)
 
 
 def kept_books(books):

@@ -10,10 +10,15 @@ LONGEST_NAME = 6
 LONGEST_NUMBER = 30
 
 
+def is_number(thing):
+    """Whether thing is a whole number."""
+    # Python takes True and False for ints; here they are no numbers.
+    return isinstance(thing, int) and not isinstance(thing, bool)
+
+
 def is_whole(thing, low, high):
     """Whether thing is a whole number from low to high, both of them with."""
-    # Python takes True and False for ints; here they are no numbers.
-    return isinstance(thing, int) and not isinstance(thing, bool) and low <= thing <= high
+    return is_number(thing) and low <= thing <= high
 
 
 def is_name(thing):

@@ -1,6 +1,7 @@
 """What several tests use: refusals looked at whole, and some editions."""
 
 from bookplaces.editions import Edition
+from bookplaces.errors import NoWriting
 
 # Things of all kinds that may be handed in where no number is asked for.
 NO_NUMBERS = (True, False, None, "", "1", "a", (), (1,), [], [1], {}, {1: 1}, Edition([("a", [[1]])]))
@@ -55,3 +56,25 @@ def refused_equal(case, kind, found, deed, *things):
     case.assertIs(type(caught.exception), kind)
     case.assertIs(type(caught.exception.found), int)
     case.assertEqual(vars(caught.exception), {"found": found})
+
+
+def unread(case, at, why, deed, *things):
+    """Checks that the deed refuses a writing at just this sign with just this word."""
+    with case.assertRaises(NoWriting) as caught:
+        deed(*things)
+    case.assertIs(type(caught.exception), NoWriting)
+    case.assertIs(type(caught.exception.at), int)
+    case.assertEqual(vars(caught.exception), {"at": at, "why": why})
+
+
+def outcome(deed, *things):
+    """What a deed tells, or the class of the refusal and its fields."""
+    try:
+        return deed(*things)
+    except (ValueError, LookupError) as error:
+        return type(error), vars(error)
+
+
+def sets_of(size):
+    """All sets of the numbers below size, each as a rising list."""
+    return [[number for number in range(size) if bits >> number & 1] for bits in range(1 << size)]

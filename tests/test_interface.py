@@ -3,7 +3,7 @@
 import inspect
 import unittest
 
-from bookplaces import editions, errors, words
+from bookplaces import editions, errors, leading, places, reading, words, writing
 
 FUNCTIONS = {
     words: {
@@ -13,9 +13,25 @@ FUNCTIONS = {
         "letter_of": "(part)",
         "part_in": "(thing)",
     },
+    places: {
+        "combined": "(deed, one, other)", "all_of": "(edition)", "spot_places": "(edition, spot)",
+        "numbered": "(edition, numbers)", "united": "(edition, some)",
+    },
+    reading: {
+        "read": "(edition, text, said=None, mark=',')", "reader": "(edition, said=None, mark=',')",
+    },
+    writing: {
+        "full": "(places)", "shortest": "(places, said=None, mark=',')", "is_shortest": "(places, thing)",
+        "short_of": "(edition, text, said=None, mark=',')", "measure": "(edition, text)",
+    },
+    leading: {
+        "shows_rows": "(one, other, thing)", "through": "(first, second, places)", "rows_through": "(first, second)",
+    },
 }
 CLASSES = {
     editions: {"Edition": "(books, lines=None)"},
+    places: {"Places": "(edition, pairs=None)"},
+    leading: {"Leading": "(one, other)"},
     errors: {
         "PlaceError": "(text)", "LostError": "(text)", "NoText": "(line)", "NoWriting": "(at, why)", "Unready": "()",
         "NoNumber": "(found)", "NoName": "(found)", "Doubled": "(found)", "NoEdition": "(found)", "TooMany": "(found)",
@@ -31,6 +47,22 @@ METHODS = {
         "line_at": "(self, number)", "part_of": "(self, thing)", "told": "(self)", "same": "(self, thing)",
         "stretch": "(self, spot)", "number": "(self, spot)", "place": "(self, number)", "verse_of": "(self, number)",
         "begins": "(self, number)", "ends": "(self, number)",
+    },
+    places.Places: {
+        "edition": "(self)", "runs": "(self)", "numbers": "(self)", "has": "(self, number)", "spots": "(self)",
+        "whole": "(self, spot)", "kth": "(self, k)", "rank": "(self, number)", "joined": "(self, other)",
+        "met": "(self, other)", "without": "(self, other)", "apart": "(self, other)", "rest": "(self)",
+        "within": "(self, other)", "__len__": "(self)", "__eq__": "(self, other)", "__str__": "(self)", "__repr__": "(self)",
+    },
+    reading.Reading: {
+        "places": "(self)", "stretches": "(self)", "spots": "(self)", "said": "(self)", "in_order": "(self)",
+        "__len__": "(self)", "__str__": "(self)",
+    },
+    leading.Leading: {
+        "editions": "(self)", "goes_to": "(self, number)", "comes_from": "(self, number)", "rows": "(self)",
+        "over": "(self, places)", "back": "(self, places)", "lacking": "(self)", "lacking_back": "(self)",
+        "verse": "(self, name, chapter, verse)", "verses": "(self)", "turned": "(self)",
+        "__len__": "(self)", "__eq__": "(self, thing)", "__str__": "(self)",
     },
 }
 

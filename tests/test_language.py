@@ -76,6 +76,23 @@ class Code(unittest.TestCase):
             if isinstance(node, ast.arg):
                 self.assertNotIn(node.arg, BUILTINS | classes, f"{name}: {node.lineno}")
 
+    def test_no_sort_and_no_generator_expression(self):
+        # Where a class has `__eq__`, lists are sorted by `sorted`, and `any`, `all` and their kin take lists.
+        for name, node in nodes():
+            self.assertNotIsInstance(node, ast.GeneratorExp, f"{name}: {getattr(node, 'lineno', 0)}")
+            if isinstance(node, ast.Attribute):
+                self.assertNotEqual(node.attr, "sort", f"{name}: {node.lineno}")
+
+    def test_no_parameter_or_variable_has_the_name_of_an_import(self):
+        for name in files():
+            tree = list(ast.walk(ast.parse(text_of(name))))
+            taken = {alias.name for node in tree if isinstance(node, ast.ImportFrom) for alias in node.names}
+            for node in tree:
+                if isinstance(node, ast.arg):
+                    self.assertNotIn(node.arg, taken, f"{name}: {node.lineno}")
+                if isinstance(node, ast.Name) and isinstance(node.ctx, ast.Store):
+                    self.assertNotIn(node.id, taken, f"{name}: {node.lineno}")
+
     def test_no_percent_in_strings(self):
         for name, node in nodes():
             if isinstance(node, ast.Constant) and isinstance(node.value, str):

@@ -107,16 +107,25 @@ def rows_through(first, second):
     return rows_of([None if goal is None else second.goes_to(goal) for goal in goals])
 
 
+def check_leading(thing):
+    """Refuse what is no leading."""
+    if not isinstance(thing, Leading):
+        raise NoLeading(thing)
+
+
+def check_leading_from(edition, thing):
+    """Refuse what is no leading from an edition that is the same."""
+    check_leading(thing)
+    one, _ = thing.editions()
+    if not edition.same(one):
+        raise NoLeading(thing)
+
+
 def check_leadings(first, second):
     """Refuse what is no leading, or a second one that doesn't begin where the first one ends."""
-    if not isinstance(first, Leading):
-        raise NoLeading(first)
-    if not isinstance(second, Leading):
-        raise NoLeading(second)
+    check_leading(first)
     _, amid = first.editions()
-    begin, _ = second.editions()
-    if not amid.same(begin):
-        raise NoLeading(second)
+    check_leading_from(amid, second)
 
 
 def same_editions(some, others):

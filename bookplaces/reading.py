@@ -67,6 +67,14 @@ def reader(edition, said=None, mark=","):
     return ask
 
 
+def places_read(edition, text):
+    """The places as which a text is read with nothing said; None where it is refused."""
+    try:
+        return read(edition, text).places()
+    except NoWriting:
+        return None
+
+
 def reading_behind(edition, text, said, mark):
     """The reading of a text behind a spot of the edition or None, and a mark."""
     return Reading(edition, text, said, pieces_read(edition, text, said, mark))

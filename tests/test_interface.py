@@ -3,7 +3,7 @@
 import inspect
 import unittest
 
-from bookplaces import editions, errors, leading, places, reading, words, writing
+from bookplaces import carrying, changed, editions, errors, leading, places, reading, torn, words, writing
 
 FUNCTIONS = {
     words: {
@@ -27,11 +27,17 @@ FUNCTIONS = {
     leading: {
         "shows_rows": "(one, other, thing)", "through": "(first, second, places)", "rows_through": "(first, second)",
     },
+    carrying: {"carried": "(leading, text, said=None, mark=',')", "misread": "(leading, text)"},
+    changed: {
+        "renamed": "(edition, names)", "reordered": "(edition, names)", "divided": "(edition, spot, many=1)",
+        "merged": "(edition, spot)", "lessened": "(edition, places)", "changed": "(edition, deeds)",
+    },
 }
 CLASSES = {
     editions: {"Edition": "(books, lines=None)"},
     places: {"Places": "(edition, pairs=None)"},
     leading: {"Leading": "(one, other)"},
+    torn: {"Torn": "(edition, text)"},
     errors: {
         "PlaceError": "(text)", "LostError": "(text)", "NoText": "(line)", "NoWriting": "(at, why)", "Unready": "()",
         "NoNumber": "(found)", "NoName": "(found)", "Doubled": "(found)", "NoEdition": "(found)", "TooMany": "(found)",
@@ -63,6 +69,11 @@ METHODS = {
         "over": "(self, places)", "back": "(self, places)", "lacking": "(self)", "lacking_back": "(self)",
         "verse": "(self, name, chapter, verse)", "verses": "(self)", "turned": "(self)",
         "__len__": "(self)", "__eq__": "(self, thing)", "__str__": "(self)",
+    },
+    torn.Torn: {
+        "could": "(self)", "signs": "(self, at)", "sets": "(self)", "many_sets": "(self)", "ways": "(self, places)",
+        "sure": "(self)", "perhaps": "(self)", "fits": "(self, thing)", "mended": "(self, at, sign)",
+        "__len__": "(self)", "__str__": "(self)",
     },
 }
 

@@ -37,7 +37,8 @@ class Carried(unittest.TestCase):
         for text, two in (
             ("a 1:1", ("c 3", "")), ("b", ("c 1-2", "")), ("a 2:2", ("d 1:1c-d", "")), ("a 2:2b", ("d 1:1d", "")),
             ("a", ("c 3,d 1:1c-d", "a 1:2-2:1")), ("a 1", ("c 3", "a 1:2")), ("a-b", ("c,d 1:1c-d", "a 1:2-2:1")),
-            ("b 1a,a 2", ("c 1,d 1:1c-d", "a 2:1")), ("a 1:2", ("", "a 1:2")), ("a 2:1,1:2", ("", "a 1:2-2:1")), ("", ("", "")),
+            ("b 1a,a 2", ("c 1,d 1:1c-d", "a 2:1")), ("a 1:2", ("", "a 1:2")), ("a 2:1,1:2", ("", "a 1:2-2:1")),
+            ("", ("", "")),
         ):
             self.assertEqual(carried(LEADING, text), two, text)
         self.assertEqual(carried(Leading(ONE, FAR), "a 2:2;b"), ("", "a 2:2-b"))
@@ -65,7 +66,8 @@ class Carried(unittest.TestCase):
         self.assertEqual(carried(LEADING, "a 1:1", mark=";"), ("c 3", ""))
 
     def test_the_same_names_and_other_chapters(self):
-        for text, two in (("x 2", ("x 3", "")), ("x 1:2", ("x 2", "")), ("x", ("x", "")), ("y 1", ("y 1-2:1", "")), ("y 2", ("y 2:2", ""))):
+        for text, two in (("x 2", ("x 3", "")), ("x 1:2", ("x 2", "")), ("x", ("x", "")), ("y 1", ("y 1-2:1", "")),
+                          ("y 2", ("y 2:2", ""))):
             self.assertEqual(carried(TO_THERE, text), two)
         self.assertEqual(carried(TO_THERE.turned(), "x 3b"), ("x 2:1b", ""))
         self.assertEqual(carried(TO_THERE.turned(), "x 2-y 1"), ("x 1:2-y 1:2", ""))
@@ -101,7 +103,8 @@ class Carried(unittest.TestCase):
             refused(self, NoLeading, {"found": thing}, carried, thing, None, "no said", "no mark")
 
     def test_no_said_and_no_mark(self):
-        for said in (0, True, "a", (), ("c",), ("a", 3), ("a", 1, 3), ("a", 1, 1, 3), ("a", 1, 1, 1, 1), ["a"], [("a",)], ONE):
+        for said in (0, True, "a", (), ("c",), ("a", 3), ("a", 1, 3), ("a", 1, 1, 3), ("a", 1, 1, 1, 1), ["a"],
+                     [("a",)], ONE):
             refused(self, NoSaid, {"found": said}, carried, LEADING, None, said, "no mark")
         for mark in (0, True, None, "", "-", ",;", " ", ":", [","], (",",), {}, ONE):
             refused(self, NoMark, {"found": mark}, carried, LEADING, None, None, mark)
@@ -110,7 +113,8 @@ class Carried(unittest.TestCase):
     def test_refused_as_by_the_one(self):
         for at, why, text in (
             (0, "text", None), (0, "text", 1), (0, "text", ["a"]), (0, "form", "A"), (0, "said", "1"), (0, "book", "c"),
-            (2, "chapter", "a,3:1"), (2, "verse", "a,1:3"), (2, "part", "a,1:2b"), (4, "order", "a 2-1"), (3, "again", "a-b-b"),
+            (2, "chapter", "a,3:1"), (2, "verse", "a,1:3"), (2, "part", "a,1:2b"), (4, "order", "a 2-1"),
+            (3, "again", "a-b-b"),
         ):
             unread(self, at, why, carried, LEADING, text)
         unread(self, 0, "said", carried, LEADING, "1", None, ";")
@@ -120,8 +124,10 @@ class Carried(unittest.TestCase):
 class Misread(unittest.TestCase):
     def test_of_the_same_names(self):
         for text, three in (
-            ("x 2", ([], [(2, 3)], [(1, 1)])), ("x 1", ([(0, 0)], [(1, 1)], [])), ("x", ([(0, 3)], [], [])), ("", ([], [], [])),
-            ("y 1", ([(4, 5)], [(6, 6)], [])), ("y 2", ([(7, 7)], [], [(6, 6)])), ("y 1:2-2:1", ([(5, 6)], [(7, 7)], [])),
+            ("x 2", ([], [(2, 3)], [(1, 1)])), ("x 1", ([(0, 0)], [(1, 1)], [])), ("x", ([(0, 3)], [], [])),
+            ("", ([], [], [])),
+            ("y 1", ([(4, 5)], [(6, 6)], [])), ("y 2", ([(7, 7)], [], [(6, 6)])),
+            ("y 1:2-2:1", ([(5, 6)], [(7, 7)], [])),
             ("x 1:1,y 2:1", ([(0, 0)], [(7, 7)], [(6, 6)])), ("x 1-y 1:1", ([(0, 4)], [], [])),
         ):
             told = misread(TO_THERE, text)
@@ -182,7 +188,8 @@ class Misread(unittest.TestCase):
             refused(self, NoLeading, {"found": thing}, misread, thing, "a")
             refused(self, NoLeading, {"found": thing}, misread, thing, None)
         for at, why, text in (
-            (0, "text", None), (0, "text", []), (0, "form", "A"), (0, "said", "1"), (0, "book", "c"), (2, "verse", "a,1:3"),
+            (0, "text", None), (0, "text", []), (0, "form", "A"), (0, "said", "1"), (0, "book", "c"),
+            (2, "verse", "a,1:3"),
             (4, "order", "a 2-1"), (3, "again", "a-b-b"),
         ):
             # Also where the other would refuse it otherwise, or would read it.

@@ -52,8 +52,10 @@ class Renamed(unittest.TestCase):
         for names in (
             {}, less, SAME_NAMES | {"a": "b"}, less | {"NUM": "num"}, less | {1: "num"}, less | {True: "num"},
             SAME_NAMES | {None: "b"}, less | {("num",): "num"}, SAME_NAMES | {"ex": "gen"}, SAME_NAMES | {"num": "Num"},
-            SAME_NAMES | {"num": ""}, SAME_NAMES | {"num": "abcdefg"}, SAME_NAMES | {"num": "a b"}, SAME_NAMES | {"num": None},
-            SAME_NAMES | {"num": 1}, SAME_NAMES | {"num": ["num"]}, SAME_NAMES | {"num": {}}, SAME_NAMES | {"num": ("num",)},
+            SAME_NAMES | {"num": ""}, SAME_NAMES | {"num": "abcdefg"}, SAME_NAMES | {"num": "a b"},
+            SAME_NAMES | {"num": None},
+            SAME_NAMES | {"num": 1}, SAME_NAMES | {"num": ["num"]}, SAME_NAMES | {"num": {}},
+            SAME_NAMES | {"num": ("num",)},
             SAME_NAMES | {"num": EDITION}, SAME_NAMES | {"num": all_of(EDITION)}, SAME_NAMES | {"num": "ex", "a": "c"},
             None, True, 0, 4, "", "gen", [], (), EDITION.names(), list(SAME_NAMES.items()), EDITION, all_of(EDITION),
             {number: "num" for number in range(500)},
@@ -91,9 +93,11 @@ class Reordered(unittest.TestCase):
     def test_no_names(self):
         for names in (
             [], (), ["gen", "ex", "lev"], ["gen", "ex", "lev", "num", "gen"], ["gen", "ex", "lev", "lev"],
-            ["gen", "ex", "lev", "a"], ["gen", "ex", "lev", None], ["gen", "ex", "lev", True], ["gen", "ex", "lev", ["num"]],
+            ["gen", "ex", "lev", "a"], ["gen", "ex", "lev", None], ["gen", "ex", "lev", True],
+            ["gen", "ex", "lev", ["num"]],
             ["gen", "ex", "lev", {}], ["gen", "ex", "lev", EDITION], ["gen", "ex", "lev", all_of(EDITION)],
-            ["gen", "ex", "lev", "NUM"], ("gen", "ex", "lev", ("num",)), None, True, 0, 4, "gen", "", SAME_NAMES, {}, EDITION,
+            ["gen", "ex", "lev", "NUM"], ("gen", "ex", "lev", ("num",)), None, True, 0, 4, "gen", "", SAME_NAMES, {},
+            EDITION,
             ["gen"] * 500, ["gen", "ex", "lev", "num"] * 2, "abcd",
         ):
             refused(self, NoNames, {"found": names}, reordered, EDITION, names)
@@ -145,7 +149,8 @@ class Divided(unittest.TestCase):
 
     def test_no_spot(self):
         for deed in (divided, merged):
-            for spot in NO_NUMBERS + (0, "gen", ("gen",), ("gen", 1), ("gen", 1, 1, 1), ["gen", 1, 1], ("a", 1, 1, 1, 1)):
+            for spot in NO_NUMBERS + (0, "gen", ("gen",), ("gen", 1), ("gen", 1, 1, 1), ["gen", 1, 1],
+                                      ("a", 1, 1, 1, 1)):
                 refused(self, NoSpot, {"found": spot}, deed, EDITION, spot)
             for name in (None, True, 1, "", "a", "Gen", [], {}, ("gen",), EDITION):
                 refused(self, NoBook, {"found": name}, deed, EDITION, (name, 9, 9))
@@ -224,7 +229,8 @@ class Lessened(unittest.TestCase):
     def test_a_part(self):
         edition = chapter([7], [1, 2, 3], [9, 8])
         for number, verses in (
-            (0, ([1, 2, 3], [9, 8])), (1, ([7], [2, 3], [9, 8])), (2, ([7], [1, 3], [9, 8])), (5, ([7], [1, 2, 3], [9])),
+            (0, ([1, 2, 3], [9, 8])), (1, ([7], [2, 3], [9, 8])), (2, ([7], [1, 3], [9, 8])),
+            (5, ([7], [1, 2, 3], [9])),
         ):
             told = lessened(edition, numbered(edition, [number]))
             self.assertIs(type(told), Edition)

@@ -5,7 +5,8 @@ import unittest
 
 from bookplaces.changed import changed, divided, lessened, merged, renamed, reordered
 from bookplaces.editions import Edition
-from bookplaces.errors import NoBook, NoChapter, NoDeed, NoEdition, NoNames, NoNumber, NoPlaces, NoSpot, NoVerse, TooMany
+from bookplaces.errors import NoBook, NoChapter, NoDeed, NoEdition, NoNames
+from bookplaces.errors import NoNumber, NoPlaces, NoSpot, NoVerse, TooMany
 from bookplaces.leading import Leading
 from bookplaces.places import Places, all_of, numbered
 from tests.changes import made, nested, plainly, random_deed
@@ -29,9 +30,11 @@ class Deeds(unittest.TestCase):
         for deed, told in (
             (("rename", BOOKS), renamed(EDITION, BOOKS)), (("reorder", ORDER), reordered(EDITION, ORDER)),
             (("reorder", tuple(ORDER)), reordered(EDITION, ORDER)), (("divide", SPOT, 1), divided(EDITION, SPOT)),
-            (("divide", SPOT, 3), divided(EDITION, SPOT, 3)), (("merge", ("gen", 1, 1)), merged(EDITION, ("gen", 1, 1))),
+            (("divide", SPOT, 3), divided(EDITION, SPOT, 3)),
+            (("merge", ("gen", 1, 1)), merged(EDITION, ("gen", 1, 1))),
             (("lessen", [0, 4, 4]), lessened(EDITION, Places(EDITION, [(0, 0), (4, 4)]))),
-            (("lessen", (11,)), lessened(EDITION, Places(EDITION, [(11, 11)]))), (("lessen", []), EDITION), (("lessen", ()), EDITION),
+            (("lessen", (11,)), lessened(EDITION, Places(EDITION, [(11, 11)]))), (("lessen", []), EDITION),
+            (("lessen", ()), EDITION),
         ):
             self.assertEqual(changed(EDITION, [deed]).told(), told.told())
             self.assertEqual(changed(EDITION, (deed,)).told(), told.told())
@@ -74,7 +77,8 @@ class Deeds(unittest.TestCase):
     def test_500_and_501(self):
         pair = [("divide", SPOT, 2), ("merge", SPOT)]
         self.assertTrue(changed(EDITION, pair * 250).same(EDITION))
-        self.assertTrue(changed(Edition(FULL), tuple([("lessen", [0])] * 399)).same(Edition([("d", [[1]])], [(399, 1)])))
+        told = changed(Edition(FULL), tuple([("lessen", [0])] * 399))
+        self.assertEqual(told.told(), ((("d", ((1,),)),), ((399, 1),)))
         for deeds in (pair * 250 + [pair[0]], tuple([("lessen", [])] * 501), [None] * 501):
             refused(self, NoDeed, {"found": deeds}, changed, EDITION, deeds)
 
@@ -102,9 +106,12 @@ class Refused(unittest.TestCase):
     def test_no_deed_at_any_place(self):
         good = [("lessen", []), ("divide", SPOT, 1), ("merge", SPOT)]
         for deed in NO_NUMBERS + (
-            0, "merge", ("merge",), ("rename",), ("reorder",), ("divide",), ("lessen",), ("divide", SPOT), ("merge", SPOT, 1),
-            ("divide", SPOT, 1, 1), ("rename", BOOKS, BOOKS), ("lessen", [0], [1]), ("reorder", ORDER, 1), ["merge", SPOT],
-            ["lessen", []], ("Merge", SPOT), ("merged", SPOT), ("", SPOT), (None, SPOT), (True, SPOT), (1, SPOT), ([], SPOT),
+            0, "merge", ("merge",), ("rename",), ("reorder",), ("divide",), ("lessen",), ("divide", SPOT),
+            ("merge", SPOT, 1),
+            ("divide", SPOT, 1, 1), ("rename", BOOKS, BOOKS), ("lessen", [0], [1]), ("reorder", ORDER, 1),
+            ["merge", SPOT],
+            ["lessen", []], ("Merge", SPOT), ("merged", SPOT), ("", SPOT), (None, SPOT), (True, SPOT), (1, SPOT),
+            ([], SPOT),
             (["merge"], SPOT), ({}, SPOT), (("merge",), SPOT), (EDITION, SPOT), (SPOT, "merge"), ("merge", *SPOT),
         ):
             for at in range(4):
@@ -119,10 +126,14 @@ class Refused(unittest.TestCase):
         ):
             refused(self, kind, {"found": deed[1]}, changed, EDITION, [("merge", ("gen", 1, 1)), deed, None])
         for deed, kind, found in (
-            (("divide", ("a", 9, 9), 9), NoBook, "a"), (("divide", ("gen", 9, 9), 9), NoChapter, 9), (("divide", SPOT, 4), NoNumber, 4),
-            (("divide", ("gen", 1, 9), 9), NoVerse, 9), (("divide", SPOT, None), NoNumber, None), (("merge", SPOT), NoVerse, 4),
-            (("merge", ("gen", 1, 2)), TooMany, 5), (("merge", ("gen", 3, 1)), NoChapter, 3), (("lessen", [0, 27]), NoNumber, 27),
-            (("lessen", (1, True)), NoNumber, True), (("lessen", [None, -1]), NoNumber, None), (("lessen", [-1]), NoNumber, -1),
+            (("divide", ("a", 9, 9), 9), NoBook, "a"), (("divide", ("gen", 9, 9), 9), NoChapter, 9),
+            (("divide", SPOT, 4), NoNumber, 4),
+            (("divide", ("gen", 1, 9), 9), NoVerse, 9), (("divide", SPOT, None), NoNumber, None),
+            (("merge", SPOT), NoVerse, 4),
+            (("merge", ("gen", 1, 2)), TooMany, 5), (("merge", ("gen", 3, 1)), NoChapter, 3),
+            (("lessen", [0, 27]), NoNumber, 27),
+            (("lessen", (1, True)), NoNumber, True), (("lessen", [None, -1]), NoNumber, None),
+            (("lessen", [-1]), NoNumber, -1),
         ):
             with self.assertRaises(kind) as caught:
                 changed(EDITION, [("lessen", []), deed, None])
@@ -134,7 +145,8 @@ class Refused(unittest.TestCase):
         for numbers in (None, True, 0, "", "0", {}, {0: 0}, [0] * 501, EDITION, Places(EDITION), all_of(EDITION)):
             refused(self, NoPlaces, {"found": numbers}, changed, EDITION, [("lessen", numbers)])
         self.assertEqual(changed(EDITION, [("lessen", [0] * 500)]).size(), 26)
-        for deeds, many in (([("lessen", list(range(27)))], 27), ([("lessen", list(range(2, 27))), ("lessen", [1, 0, 0])], 2)):
+        for deeds, many in (([("lessen", list(range(27)))], 27),
+                            ([("lessen", list(range(2, 27))), ("lessen", [1, 0, 0])], 2)):
             with self.assertRaises(NoPlaces) as caught:
                 changed(EDITION, deeds)
             places = caught.exception.found

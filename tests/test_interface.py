@@ -3,7 +3,8 @@
 import inspect
 import unittest
 
-from bookplaces import carrying, changed, editions, errors, leading, places, reading, torn, words, writing
+from bookplaces import carrying, changed, desk, editions, errors, leading, lists, places, portions, reading
+from bookplaces import texts, torn, words, writing
 
 FUNCTIONS = {
     words: {
@@ -32,12 +33,21 @@ FUNCTIONS = {
         "renamed": "(edition, names)", "reordered": "(edition, names)", "divided": "(edition, spot, many=1)",
         "merged": "(edition, spot)", "lessened": "(edition, places)", "changed": "(edition, deeds)",
     },
+    portions: {
+        "greatest": "(places, many)", "portions": "(places, many)", "portion_of": "(places, many, number)",
+        "is_parting": "(places, thing)",
+    },
+    texts: {
+        "edition_text": "(edition)", "edition_of": "(text)", "lists_text": "(lists)", "lists_of": "(edition, text)",
+    },
 }
 CLASSES = {
     editions: {"Edition": "(books, lines=None)"},
     places: {"Places": "(edition, pairs=None)"},
     leading: {"Leading": "(one, other)"},
     torn: {"Torn": "(edition, text)"},
+    lists: {"Lists": "(edition)"},
+    desk: {"Desk": "()"},
     errors: {
         "PlaceError": "(text)", "LostError": "(text)", "NoText": "(line)", "NoWriting": "(at, why)", "Unready": "()",
         "NoNumber": "(found)", "NoName": "(found)", "Doubled": "(found)", "NoEdition": "(found)", "TooMany": "(found)",
@@ -75,6 +85,14 @@ METHODS = {
         "sure": "(self)", "perhaps": "(self)", "fits": "(self, thing)", "mended": "(self, at, sign)",
         "__len__": "(self)", "__str__": "(self)",
     },
+    lists.Lists: {
+        "put": "(self, name, places)", "add": "(self, name, places)", "strike": "(self, name, places)",
+        "drop": "(self, name)", "rename": "(self, name, other)", "swap": "(self, name, other)",
+        "back": "(self)", "forth": "(self)", "names": "(self)", "places_of": "(self, name)",
+        "holders": "(self, thing)", "told": "(self)", "edition": "(self)", "twin": "(self)",
+        "over": "(self, leading)", "asker": "(self, name)", "__len__": "(self)",
+    },
+    desk.Desk: {"say": "(self, line)"},
 }
 
 

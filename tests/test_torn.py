@@ -19,7 +19,8 @@ OTHER = Edition(BOOKS, [(100, 22)])
 PLAIN = Plain(BOOKS)
 SIGNS = " ,-0123456789:;abcdefghijklmnopqrstuvwxyz"
 # None, one and two torn signs; some may have been nothing, and some one text.
-TEXTS = ("", "a", "z", "?", "??", "a?", "?b", "a 1:?", "a ?:2", "a 1:1?", "?a", "a??", "a 1?1", "b?1", "a 1:2,?", "?-?", "b 2?-2?",
+TEXTS = ("", "a", "z", "?", "??", "a?", "?b", "a 1:?", "a ?:2", "a 1:1?", "?a", "a??", "a 1?1", "b?1", "a 1:2,?", "?-?",
+         "b 2?-2?",
          "a?b", "ab 1?", "ab 1?,1?", "a 1:1?2?", "x?", "a 9:?", "a-?-b", "A?", "a,b", "a-ab", "1", "? 1", "a ?;?")
 
 
@@ -48,7 +49,8 @@ class Could(unittest.TestCase):
         for text, texts in (
             ("a", ["a"]), ("", [""]), ("z", []), ("1", []), ("A", []), ("a\n?", []), ("?", ["a", "b"]), ("a?", ["ab"]),
             ("?b", ["ab"]), ("a 1:?", ["a 1:1", "a 1:2", "a 1:3"]), ("a 1?1", ["a 1,1", "a 1:1", "a 1;1"]),
-            ("a?2", ["a 2", "a,2", "a;2"]), ("a 1:1?", ["a 1:1a", "a 1:1b"]), ("a 1:1?2", ["a 1:1,2", "a 1:1-2", "a 1:1;2"]),
+            ("a?2", ["a 2", "a,2", "a;2"]), ("a 1:1?", ["a 1:1a", "a 1:1b"]),
+            ("a 1:1?2", ["a 1:1,2", "a 1:1-2", "a 1:1;2"]),
             ("a?b", ["a,b", "a-b", "a;b"]), ("b?a", ["b,a", "b;a"]), ("ab 1?", ["ab 10", "ab 11", "ab 12", "ab 1a"]),
             ("??", ["ab"]), ("? ?", ["a 1", "a 2", "b 1", "b 2"]), ("a 9:?", []),
             ("?,?", ["a,1", "a,2", "a,a", "a,b", "b,1", "b,2", "b,a", "b,b"]),
@@ -111,8 +113,10 @@ class Could(unittest.TestCase):
 class Signs(unittest.TestCase):
     def test_written_by_hand(self):
         for text, at, signs in (
-            ("a 1:?", 4, ["1", "2", "3"]), ("a 1:?", 0, ["a"]), ("a 1:?", 1, [" "]), ("a 1:?", 3, [":"]), ("a?b", 1, [",", "-", ";"]),
-            ("a 9:?", 4, []), ("a 9:?", 0, []), ("z", 0, []), ("a", 0, ["a"]), ("? ?", 0, ["a", "b"]), ("? ?", 2, ["1", "2"]),
+            ("a 1:?", 4, ["1", "2", "3"]), ("a 1:?", 0, ["a"]), ("a 1:?", 1, [" "]), ("a 1:?", 3, [":"]),
+            ("a?b", 1, [",", "-", ";"]),
+            ("a 9:?", 4, []), ("a 9:?", 0, []), ("z", 0, []), ("a", 0, ["a"]), ("? ?", 0, ["a", "b"]),
+            ("? ?", 2, ["1", "2"]),
             ("ab 1?", 4, ["0", "1", "2", "a"]), ("a?2", 1, [" ", ",", ";"]),
         ):
             told = Torn(EDITION, text).signs(at)
@@ -178,7 +182,8 @@ class Sets(unittest.TestCase):
 
     def test_sure_and_perhaps(self):
         for text, sure, perhaps in (
-            ("a?2", [(4, 5)], [(0, 5)]), ("a?b", [(0, 9)], [(0, 9)]), ("z", [], []), ("", [], []), ("a 1:?", [], [(0, 3)]),
+            ("a?2", [(4, 5)], [(0, 5)]), ("a?b", [(0, 9)], [(0, 9)]), ("z", [], []), ("", [], []),
+            ("a 1:?", [], [(0, 3)]),
             ("a 1:1?2", [(0, 1)], [(0, 2), (4, 5)]), ("a 9:?", [], []), ("a", [(0, 5)], [(0, 5)]),
         ):
             torn = Torn(EDITION, text)
@@ -220,7 +225,8 @@ class Fits(unittest.TestCase):
 
     def test_things_of_any_kind(self):
         for torn in (Torn(EDITION, "?"), Torn(EDITION, ""), Torn(EDITION, "z")):
-            for thing in (None, True, False, 0, 1, (), ("a",), [], ["a"], {}, {"a": "a"}, EDITION, all_of(EDITION), Places(EDITION),
+            for thing in (None, True, False, 0, 1, (), ("a",), [], ["a"], {}, {"a": "a"}, EDITION, all_of(EDITION),
+                          Places(EDITION),
                           torn, read(EDITION, "a"), Leading(EDITION, EDITION), [[["a"]]]):
                 self.assertIs(torn.fits(thing), False)
 
@@ -258,7 +264,8 @@ class Mended(unittest.TestCase):
 
     def test_no_mark(self):
         torn = Torn(EDITION, "a?2?")
-        for sign in (None, True, 0, 1, "", "?", "A", "aa", "ab", " ,", "\n", ".", "_", "/", "<", "@", "[", "`", "{", "~", "!", "'", "+",
+        for sign in (None, True, 0, 1, "", "?", "A", "aa", "ab", " ,", "\n", ".", "_", "/", "<", "@", "[", "`", "{",
+                     "~", "!", "'", "+",
                      (), ("a",), ["a"], {}, {"a": 1}, EDITION, all_of(EDITION), torn, SIGNS):
             for at in (1, 3):
                 refused(self, NoMark, {"found": sign}, torn.mended, at, sign)
